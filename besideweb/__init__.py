@@ -1,0 +1,1 @@
+"""Besideweb: webs made by laying webs beside one another and by tying all across."""
