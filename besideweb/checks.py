@@ -16,6 +16,11 @@ def tied(web, one, other):
     return (web[one] >> other) & 1 == 1
 
 
+def has_points(web, points):
+    """Whether the web has each of these points."""
+    return all([is_below(point, len(web)) for point in points])
+
+
 def check_web(web):
     """Refuse what is no web with BadWeb."""
     if not isinstance(web, list) or not 1 <= len(web) <= MOST_POINTS:
@@ -40,8 +45,7 @@ def check_points(web, points):
     """Refuse what is no list of different points of the web, or an empty one, with NoPoint."""
     if not isinstance(points, list) or len(points) == 0:
         raise NoPoint("the points are a list of one at least")
-    for point in points:
-        if not is_below(point, len(web)):
-            raise NoPoint("the web has no such point")
+    if not has_points(web, points):
+        raise NoPoint("the web has no such point")
     if len(set(points)) != len(points):
         raise NoPoint("a point stands twice")

@@ -27,6 +27,8 @@ METHODS = set("""
     items join keys ljust lower lstrip partition pop remove replace reverse rfind rjust rpartition rsplit rstrip
     setdefault split splitlines startswith strip update upper values zfill bit_length __init__
 """.split())
+WALKED_AT_ONCE = ("zip", "enumerate", "reversed", "range", "items", "keys", "values")
+WALKERS = ("list", "tuple", "dict", "sorted", "sum", "any", "all", "enumerate", "zip", "min", "max", "join")
 DUNDERS = ("__init__", "__eq__", "__repr__", "__str__", "__len__")
 WORDS = re.compile(
     r"\b(type|typing|typing_extensions|enum|Enum|IntEnum|StrEnum|Flag|IntFlag|Generic|Protocol|ABC|ABCMeta|namedtuple"
@@ -38,6 +40,21 @@ def walked(kind=ast.AST):
         for node in ast.walk(ast.parse(text)):
             if isinstance(node, kind):
                 yield name, node
+
+
+def walked_with_parents(kind):
+    """Each node of this kind with the one that it stands straight in."""
+    for name, parent in walked():
+        for node in ast.iter_child_nodes(parent):
+            if isinstance(node, kind):
+                yield name, parent, node
+
+
+def called(node):
+    """The name by which something is called, or nothing where node is no call."""
+    if not isinstance(node, ast.Call):
+        return ""
+    return node.func.id if isinstance(node.func, ast.Name) else node.func.attr
 
 
 def own_values():
@@ -121,6 +138,66 @@ class Language(unittest.TestCase):
             free = [name for name in draws if not draws[name] & set(draws)]
             self.assertTrue(free, draws)
             draws = {name: draws[name] for name in draws if name not in free}
+
+    def test_params_and_locals_are_not_called_like_classes_or_imports_of_the_file(self):
+        for name, text in SOURCES.items():
+            module = ast.parse(text)
+            taken = [node.name for node in module.body if isinstance(node, ast.ClassDef)]
+            taken += [drawn.name for node in module.body if isinstance(node, ast.ImportFrom) for drawn in node.names]
+            self.assertFalse([node for node in ast.walk(module) if isinstance(node, ast.alias) and node.asname], name)
+            for node in ast.walk(module):
+                self.assertNotIn(getattr(node, "arg", None), taken, name)
+                if isinstance(node, ast.Name) and isinstance(node.ctx, ast.Store):
+                    self.assertNotIn(node.id, taken, name)
+
+    def test_is_stands_beside_none_true_and_false_alone(self):
+        for name, node in walked(ast.Compare):
+            for sign, right in zip(node.ops, node.comparators):
+                if isinstance(sign, (ast.Is, ast.IsNot)):
+                    self.assertTrue(isinstance(right, ast.Constant) and right.value in (None, True, False), name)
+
+    def test_sets_are_neither_kept_nor_walked(self):
+        for name, parent, node in walked_with_parents(ast.Call):
+            if called(node) == "set":
+                asked = called(parent) in ("len", "sorted") or isinstance(parent, ast.Compare)
+                self.assertTrue(asked, (name, node.lineno))
+
+    def test_what_is_walked_at_once(self):
+        for name, parent, node in walked_with_parents(ast.Call):
+            if called(node) in WALKED_AT_ONCE:
+                behind_in = isinstance(parent, (ast.For, ast.comprehension))
+                self.assertTrue(behind_in or called(parent) in WALKERS, (name, node.lineno))
+
+    def test_what_a_loop_walks_is_not_changed_in_it(self):
+        for name, loop in walked(ast.For):
+            over = {node.id for node in ast.walk(loop.iter) if isinstance(node, ast.Name)}
+            for node in ast.walk(loop):
+                if isinstance(node, ast.Call) and isinstance(node.func, ast.Attribute):
+                    if node.func.attr in ("append", "extend", "insert", "pop", "remove", "reverse", "clear", "update"):
+                        self.assertNotIn(getattr(node.func.value, "id", None), over, (name, node.lineno))
+                if isinstance(node, ast.Subscript) and isinstance(node.ctx, ast.Store):
+                    self.assertNotIn(getattr(node.value, "id", None), over, (name, node.lineno))
+
+    def test_small_forms(self):
+        for name, node in walked(ast.Assign):
+            self.assertEqual(len(node.targets), 1, (name, node.lineno))
+        for name, node in walked(ast.keyword):
+            self.assertIn(node.arg, ("key", "reverse", "default", "start", "strict"), name)
+        for name, node in walked(ast.ListComp):
+            self.assertTrue(len(node.generators) == 1 and len(node.generators[0].ifs) <= 1, (name, node.lineno))
+        for name, node in walked(ast.FormattedValue):
+            self.assertTrue(isinstance(node.value, ast.Name) and node.format_spec is None, (name, node.lineno))
+        for name, node in walked(ast.BinOp):
+            self.assertNotIsInstance(node.op, ast.Pow, (name, node.lineno))
+        for name, node in walked(ast.Constant):
+            self.assertFalse(isinstance(node.value, str) and "%" in node.value, (name, node.lineno))
+
+    def test_errors_are_made_on_the_spot_and_taken_by_name(self):
+        own = [node.name for node in ast.parse(SOURCES["errors.py"]).body if isinstance(node, ast.ClassDef)]
+        for name, node in walked(ast.Raise):
+            self.assertIn(called(node.exc), own, (name, node.lineno))
+        for name, node in walked(ast.ExceptHandler):
+            self.assertTrue(isinstance(node.type, ast.Name) and node.type.id in own, (name, node.lineno))
 
     def test_the_top_of_a_file(self):
         for name, text in SOURCES.items():

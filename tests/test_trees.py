@@ -2,25 +2,14 @@ import unittest
 
 from besideweb.errors import BadTree
 from besideweb.trees import Across, Beside, Doing, Point, Tree, web_of
-from helper import NO_NUMBERS, every_pair, every_plan, plan_pairs, plan_points, tree_from, web_with
+from helper import (
+    NO_NUMBERS, every_pair, every_plan, plan_pairs, plan_points, plan_shape, plan_told, tree_from, web_with)
 
 DOINGS = (Beside, Across)
 
 
 def points_at(*numbers):
     return [Point(number) for number in numbers]
-
-
-def plan_told(plan):
-    if not isinstance(plan, tuple):
-        return "0123456789"[plan]
-    return "(" + plan[0].join(plan_told(inner) for inner in plan[1:]) + ")"
-
-
-def plan_shape(plan):
-    if not isinstance(plan, tuple):
-        return "o"
-    return "(" + plan[0].join(sorted(plan_shape(inner) for inner in plan[1:])) + ")"
 
 
 class Kinds(unittest.TestCase):

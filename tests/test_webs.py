@@ -3,33 +3,13 @@ from itertools import permutations
 
 from besideweb.errors import BadWeb, NoPoint
 from besideweb.webs import among, parts, turned
-from helper import NO_NUMBERS, every_pair, every_web, pairs_of, web_with
-
-ROW = [2, 5, 10, 4]
-RING_OF_TEN = web_with(10, [(k, (k + 1) % 10) for k in range(10)])
-NO_TIES = [0] * 10
-ALL_TIES = web_with(10, every_pair(10))
-
-BAD_WEBS = [
-    None, "", "0", 0, 1, True, {}, {0: 0}, (), (0,), (2, 1), range(1),
-    [], [0] * 11, [0] * 12, web_with(11, every_pair(11)),
-    [-1], [-2, 1], [2, -1], [0, 0, -4],
-    [1], [2], [4, 0], [6, 1], [0, 8, 0], [0] * 9 + [1 << 10],
-    [1, 0], [0, 2], [3, 1], [2, 3], [6, 5, 7],
-    [2, 0], [0, 1], [2, 5, 0], [0] * 9 + [1], [512] + [0] * 9,
-] + [[wrong] for wrong in NO_NUMBERS] + [[2, wrong] for wrong in NO_NUMBERS]
+from helper import (
+    ALL_TIES, BAD_WEBS, NO_NUMBERS, NO_TIES, RING_OF_TEN, ROW, every_pair, every_web, pairs_of, refused_alike, web_with)
 
 BAD_POINTS = [
     None, "", "01", 0, True, (), (0,), (0, 1), {}, {0: 1}, range(2),
     [], [0, 0], [1, 0, 2, 1], [3, 3], [4], [0, 4], [-1], [0, -1], [10], [0, 100],
 ] + [[wrong] for wrong in NO_NUMBERS] + [[0, wrong] for wrong in NO_NUMBERS] + [[2, 3, wrong] for wrong in NO_NUMBERS]
-
-
-def refused_alike(test, refusal, calls):
-    for call in calls:
-        with test.assertRaises(refusal) as caught:
-            call()
-        test.assertEqual(caught.exception.__class__, refusal)
 
 
 class Turned(unittest.TestCase):
